@@ -1,7 +1,11 @@
 package vault_test
 
 import (
+	"bytes"
+	"crypto/md5"
+	"encoding/hex"
 	"fmt"
+	"runtime"
 	"strings"
 	"testing"
 
@@ -159,4 +163,77 @@ func TestClashingTextsAreSealed(t *testing.T) { // P10.2: and each is opened as 
 		opened(t, what, v, madeKey(17), 1, 2, no, "no!")
 		counts(t, what, v, 1)
 	})
+}
+
+func TestTextsOfOneWeakerDigestClash(t *testing.T) { // P10.1: of a pair with one MD5, as none with one SHA-256 is known
+	const one = "d131dd02c5e6eec4693d9a0698aff95c2fcab58712467eab4004583eb8fb7f8955ad340609f4b30283e488832571415a" +
+		"085125e8f7cdc99fd91dbdf280373c5bd8823e3156348f5bae6dacd436c919c6dd53e2b487da03fd02396306d248cda0" +
+		"e99f33420f577ee8ce54b67080a80d1ec69821bcb6a8839396f9652b6ff72a70"
+	x, err := hex.DecodeString(one)
+	if err != nil {
+		t.Fatal(err)
+	}
+	y := bytes.Clone(x)
+	for _, at := range []int{19, 45, 59, 83, 109, 123} { // the bytes in which the pair differs, each in its highest bit
+		y[at] ^= 0x80
+	}
+	if md5.Sum(x) != md5.Sum(y) || bytes.Equal(x, y) {
+		t.Fatalf("%x and %x are no such pair", md5.Sum(x), md5.Sum(y))
+	}
+	each(func(what string, make func(vault.Key, int) *vault.Vault) {
+		v := make(madeKey(18), 10)
+		for i, text := range [][]byte{x, y, y, x} {
+			sealed(t, v, madeKey(19), 1, 2, string(text))
+			counts(t, what, v, []int{0, 1, 1, 2}[i])
+		}
+	})
+}
+
+// grown: how many bytes more are in use behind a call than ahead of it, of what a vault keeps.
+func grown(v *vault.Vault, call func()) int {
+	inUse := func() int {
+		var m runtime.MemStats
+		runtime.GC()
+		runtime.GC()
+		runtime.ReadMemStats(&m)
+		return int(m.HeapAlloc)
+	}
+	ahead := inUse()
+	call()
+	behind := inUse()
+	runtime.KeepAlive(v)
+	return behind - ahead
+}
+
+// The next two are of real vaults alone, since an ideal one's world keeps all texts by itself.
+
+func TestAllBytesOfATextCount(t *testing.T) { // P10.1: made-up bytes can't be told from all others by anything shorter than they are, so room for them must be kept
+	const count, length = 16, api.MaxHash / 4
+	v := vault.Real(madeKey(20), count)
+	room := grown(v, func() {
+		for seq := range count {
+			sealed(t, v, madeKey(21), 1, seq, string(made(int64(seq), length)))
+		}
+	})
+	if least := count * length * 7 / 8; room < least {
+		t.Errorf("of %d texts of %d bytes only %d bytes are kept, not %d: texts of one digest would be taken for the same", count, length, room, least)
+	}
+	for seq := range count {
+		sealed(t, v, madeKey(21), 1, seq, string(made(int64(seq), length)))
+		counts(t, "the same again", v, 0)
+	}
+}
+
+func TestOfOnePlaceTheLastTextAloneIsKept(t *testing.T) { // P10.1: no more than Clashes needs
+	const count, length = 16, api.MaxHash / 4
+	v := vault.Real(madeKey(22), 1)
+	room := grown(v, func() {
+		for i := range count {
+			sealed(t, v, madeKey(23), 1, 0, string(made(int64(i/2), length))) // each one twice
+		}
+	})
+	if most := 2 * length; room > most {
+		t.Errorf("%d bytes are kept, not %d at most", room, most)
+	}
+	counts(t, "one place", v, count/2-1)
 }
