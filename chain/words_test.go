@@ -149,9 +149,6 @@ func TestHalvesOfDisksOfAnySectors(t *testing.T) { // P16.1, P16.2: as many sect
 func TestFramesOfEachLength(t *testing.T) { // P16.1: from 48 to 16384 bytes, behind one another, with noughts up to the next sector
 	d := disk.New(140)
 	for length := 48; length <= 16384; length++ {
-		if length > 800 && length < 16000 && length%256 > 2 && length%256 < 254 {
-			continue
-		}
 		a := chain.Half(d, length)
 		first := 70 * (length % 2)
 		ahead, f, behind := frame(300, 1), frame(length, 2), frame(200, 3)
